@@ -1,0 +1,1 @@
+"""Doffyard: threads spun on frames, pieced by few hands."""
