@@ -9,6 +9,7 @@ class Frame:
 
     def __init__(self, number, told, strays):
         kind, threads, most, full, doff, rows = told
+        self.told = told
         self.number = number
         self.kind = kind
         self.most = most
@@ -24,6 +25,26 @@ class Frame:
         self.left = 0
         self.lengths = 0
         self.met = 0
+
+    def twin(self):
+        """Make another one that stands as this one does."""
+        other = Frame(self.number, self.told, self.strays)
+        other.whole = list(self.whole)
+        other.down = self.down
+        other.spun = self.spun
+        other.fill = self.fill
+        other.left = self.left
+        other.lengths = self.lengths
+        other.met = self.met
+        return other
+
+    def does(self):
+        """Tell the word of what it does in the beat behind now."""
+        if self.left > 0:
+            return "doffed"
+        if self.down > self.most:
+            return "stands"
+        return "spins"
 
     def to_stray(self):
         """Tell how much it has yet to spin to its next stray, None where there is none."""

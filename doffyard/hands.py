@@ -6,6 +6,7 @@ class Hand:
 
     def __init__(self, number, told):
         frame, minds, start, end = told
+        self.told = told
         self.number = number
         self.home = frame
         self.minds = minds
@@ -14,6 +15,14 @@ class Hand:
         self.at = None
         self.job = None
         self.busy = 0
+
+    def twin(self):
+        """Make another one that stands as this one does."""
+        other = Hand(self.number, self.told)
+        other.at = self.at
+        other.job = self.job
+        other.busy = self.busy
+        return other
 
     def change(self, now):
         """Come or go, where the beat behind the moment now is the one for it."""

@@ -1,7 +1,7 @@
 """Refuses what is not of the kind that a question asks for."""
 
-from doffyard.errors import NoMoment, NoYard
-from doffyard.wholes import is_moment
+from doffyard.errors import NoFrame, NoHand, NoMoment, NoStray, NoYard
+from doffyard.wholes import is_beat, is_moment, is_within
 from doffyard.yards import is_yard
 
 
@@ -15,3 +15,32 @@ def need_moment(thing):
     """Refuse what is no moment."""
     if not is_moment(thing):
         raise NoMoment("a moment is a whole number from 0 to 10 ** 30")
+
+
+def need_beat(thing):
+    """Refuse what is no beat."""
+    if not is_beat(thing):
+        raise NoMoment("a beat is a whole number from 1 to 10 ** 30")
+
+
+def need_frame(yard, thing):
+    """Refuse what is no number of one of the yard's frames."""
+    if not is_number_of(thing, yard[0]):
+        raise NoFrame("this is no number of a frame")
+
+
+def need_hand(yard, thing):
+    """Refuse what is no number of one of the yard's hands."""
+    if not is_number_of(thing, yard[4]):
+        raise NoHand("this is no number of a hand")
+
+
+def need_stray(yard, thing):
+    """Refuse what is no number of one of the yard's strays."""
+    if not is_number_of(thing, yard[5]):
+        raise NoStray("this is no number of a stray")
+
+
+def is_number_of(thing, parts):
+    """Whether it is the number of one of the parts, from 0 on."""
+    return is_within(thing, 0, len(parts) - 1)

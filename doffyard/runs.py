@@ -12,41 +12,52 @@ def run_yard(yard, moment):
 
 
 def run_to(walker, moment):
-    """Bring a walker to a moment that isn't before its own.
+    """Bring a walker to a moment that isn't before its own."""
+    seeker = Seeker(walker)
+    while walker.now < moment:
+        if seeker.step(moment - walker.now):
+            seeker.leap(walker.rounds_ahead(seeker.mark, moment))
+
+
+class Seeker:
+    """Takes a walker on and finds where it has come round: to stand as it stood at the mark.
 
     The mark moves on after ever twice as many steps, so that it comes to lie in a round
     without all moments being kept, however long the round is.
     """
-    mark = Mark(walker)
-    steps = 0
-    limit = 1
-    while walker.now < moment:
-        walker.step(moment - walker.now)
-        steps += 1
-        if walker.count_met() != mark.behind:
-            mark = Mark(walker)
-            steps = 0
-            limit = 1
-        elif walker.is_like(mark):
-            walker.leap(mark, rounds_ahead(walker, mark, moment))
-        elif steps == limit:
-            mark = Mark(walker)
-            steps = 0
-            limit *= 2
 
+    def __init__(self, walker):
+        self.walker = walker
+        self.put_mark(1)
 
-def rounds_ahead(walker, mark, moment):
-    """Tell how many rounds, like that from the mark to now, end by the moment and meet no stray, coming or going."""
-    ahead = moment - walker.now
-    turn = walker.to_turn()
-    if turn is not None:
-        ahead = min(ahead, turn)
-    times = ahead // (walker.now - mark.now)
-    for frame, spun in zip(walker.frames, mark.spun_then):
-        stray = frame.to_stray()
-        if stray is not None and frame.spun > spun:
-            times = min(times, (stray - 1) // (frame.spun - spun))
-    return times
+    def put_mark(self, limit):
+        """Have the mark here for so many steps."""
+        self.mark = Mark(self.walker)
+        self.steps = 0
+        self.limit = limit
+
+    def step(self, most):
+        """Take the walker on by a step, most beats at most; tell whether it has come round.
+
+        Where it meets a stray, a coming or a going the mark is put just behind that.
+        """
+        # a beat in which a hand comes or goes is walked by itself, so that the mark is no later than need be
+        if self.walker.to_turn() == 0:
+            most = 1
+        self.walker.step(most)
+        self.steps += 1
+        if self.walker.count_met() != self.mark.behind:
+            self.put_mark(1)
+        elif self.walker.is_like(self.mark):
+            return True
+        elif self.steps >= self.limit:
+            self.put_mark(2 * self.limit)
+        return False
+
+    def leap(self, times):
+        """Leap over so many rounds more, where the walker has come round, and put the mark behind them."""
+        self.walker.leap(self.mark, times)
+        self.put_mark(1)
 
 
 def parts_of(yard):

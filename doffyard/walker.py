@@ -16,16 +16,32 @@ class Walker:
 
     def __init__(self, yard, frames, hands):
         told_frames, walks, pieces, rule, told_hands, strays = yard
+        self.told = (yard, frames, hands)
         self.walks = walks
         self.pieces = pieces
         self.rule = rule
-        self.frames = [Frame(at, told_frames[at], strays_of(strays, at)) for at in frames]
-        self.numbered = {frame.number: frame for frame in self.frames}
-        self.hands = [Hand(at, told_hands[at]) for at in hands]
+        self.seat([Frame(at, told_frames[at], strays_of(strays, at)) for at in frames],
+                  [Hand(at, told_hands[at]) for at in hands])
         self.turns = turns_of(self.hands)
         self.turned = 0
         self.broken = []
         self.now = 0
+
+    def seat(self, frames, hands):
+        """Have these frames and hands."""
+        self.frames = frames
+        self.numbered = {frame.number: frame for frame in frames}
+        self.hands = hands
+
+    def twin(self):
+        """Make another one at which all stands as at this one, and that goes its own way from now on."""
+        yard, frames, hands = self.told
+        other = Walker(yard, frames, hands)
+        other.seat([frame.twin() for frame in self.frames], [hand.twin() for hand in self.hands])
+        other.turned = self.turned
+        other.broken = list(self.broken)
+        other.now = self.now
+        return other
 
     def step(self, most):
         """Walk one beat, and on, most beats at most, while they all go like it and nothing happens but behind the last.
@@ -107,6 +123,16 @@ class Walker:
         self.numbered[job[0]].mend(job[1])
         self.broken = [torn for torn in self.broken if torn[:2] != job]
 
+    def hand_does(self, hand):
+        """Tell the word of what a hand does in a beat that has begun."""
+        if hand.at is None:
+            return "away"
+        if hand.job is None:
+            return "idle"
+        if hand.busy > self.pieces[self.numbered[hand.job[0]].kind]:
+            return "walks"
+        return "pieces"
+
     def count_met(self):
         """Tell how many strays, and moments at which hands come or go, lie behind."""
         return self.turned + sum([frame.met for frame in self.frames])
@@ -117,6 +143,24 @@ class Walker:
             if (frame.fill, frame.left) != filled:
                 return False
         return broken_threads(self.broken) == mark.torn and [hand.posed() for hand in self.hands] == mark.held
+
+    def rounds_ahead(self, mark, moment):
+        """Tell how many rounds, like that from the mark to now, end by the moment and meet no stray, coming or going.
+
+        Where the moment is None they may end whenever they do, and None is told where they go on for ever.
+        """
+        beats = self.now - mark.now
+        times = []
+        if moment is not None:
+            times.append((moment - self.now) // beats)
+        turn = self.to_turn()
+        if turn is not None:
+            times.append(turn // beats)
+        for frame, spun in zip(self.frames, mark.spun_then):
+            stray = frame.to_stray()
+            if stray is not None and frame.spun > spun:
+                times.append((stray - 1) // (frame.spun - spun))
+        return min(times, default=None)
 
     def leap(self, mark, times):
         """Leap over so many rounds more, like that from the mark to now; none of them may meet anything."""
@@ -157,6 +201,28 @@ def turns_of(hands):
 def broken_threads(broken):
     """Tell the broken threads in their order, without when they broke."""
     return [(frame, thread) for frame, thread, since in broken]
+
+
+def walk_to(walker, moment):
+    """Walk to a moment that isn't before the walker's own, and leap over nothing."""
+    while walker.now < moment:
+        walker.step(moment - walker.now)
+
+
+def frames_doing(walkers):
+    """Tell what each frame does in the beat behind now, of walkers that have all of a yard between them."""
+    for walker in walkers:
+        walker.begin()
+    words = {frame.number: frame.does() for walker in walkers for frame in walker.frames}
+    return tuple(words[number] for number in range(len(words)))
+
+
+def hands_doing(walkers):
+    """Tell what each hand does in the beat behind now, of walkers that have all of a yard between them."""
+    for walker in walkers:
+        walker.begin()
+    words = {hand.number: walker.hand_does(hand) for walker in walkers for hand in walker.hands}
+    return tuple(words[number] for number in range(len(words)))
 
 
 def what_stands(walkers):

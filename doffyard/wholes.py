@@ -18,6 +18,16 @@ def is_moment(thing):
     return is_within(thing, 0, BIG)
 
 
+def is_beat(thing):
+    """Whether it is a whole number from 1 to BIG."""
+    return is_within(thing, 1, BIG)
+
+
+def is_count(thing):
+    """Whether it is a whole number from 0 on, however great."""
+    return is_whole(thing) and thing >= 0
+
+
 def is_tuple_of(thing, least, most):
     """Whether it is a tuple of least to most parts."""
     return isinstance(thing, tuple) and least <= len(thing) <= most

@@ -3,6 +3,8 @@
 from doffyard.wholes import BIG, is_rising, is_tuple_of, is_within
 
 RULES = ("near", "old", "sort")
+MOST_HANDS = 16
+MOST_STRAYS = 16
 
 
 def is_yard(thing):
@@ -65,7 +67,7 @@ def is_rule(thing):
 
 def are_hands(thing, many):
     """Whether it is a tuple of at most sixteen hands in a yard of so many frames."""
-    return is_tuple_of(thing, 0, 16) and all(is_hand(part, many) for part in thing)
+    return is_tuple_of(thing, 0, MOST_HANDS) and all(is_hand(part, many) for part in thing)
 
 
 def is_hand(thing, many):
@@ -86,7 +88,8 @@ def are_minds(thing, many):
 
 def are_strays(thing, frames):
     """Whether it is a rising tuple of at most sixteen strays in these frames."""
-    return is_tuple_of(thing, 0, 16) and all(is_stray(part, frames) for part in thing) and is_rising(thing)
+    return (is_tuple_of(thing, 0, MOST_STRAYS) and all(is_stray(part, frames) for part in thing)
+            and is_rising(thing))
 
 
 def is_stray(thing, frames):

@@ -12,13 +12,10 @@ def there(hand, beat):
     return beat >= first + 1 and (last is None or beat <= last)
 
 
-def one_beat(yard, standing, beat):
-    """What stands behind the beat, where standing stood before it."""
-    frames, walks, pieces, rule, hands, strays = yard
-    counts, broken, hands_now, lengths = standing
-    counts = [list(count) for count in counts]
-    lengths = list(lengths)
-
+def hands_in(yard, standing, beat):
+    """The hands in the beat, once they came, went and took, where standing stood before it: None or [at, job, left]."""
+    frames, walks, pieces, rule, hands, _ = yard
+    _, broken, hands_now, _ = standing
     now = []
     for hand, old in zip(hands, hands_now):
         if not there(hand, beat):
@@ -47,6 +44,38 @@ def one_beat(yard, standing, beat):
             _, frame, thread = best
             hand[1] = (frame, thread)
             hand[2] = walks[hand[0]][frame] + pieces[frames[frame][0]]
+    return now
+
+
+def frame_words(yard, standing):
+    """What each frame does in the beat before which standing stood."""
+    words = []
+    for at, frame in enumerate(yard[0]):
+        down = len([torn for torn in standing[1] if torn[0] == at])
+        words.append("doffed" if standing[0][at][2] > 0 else "stands" if down > frame[2] else "spins")
+    return tuple(words)
+
+
+def hand_words(yard, standing, beat):
+    """What each hand does in the beat before which standing stood."""
+    words = []
+    for hand in hands_in(yard, standing, beat):
+        if hand is None:
+            words.append("away")
+        elif hand[1] is None:
+            words.append("idle")
+        else:
+            words.append("pieces" if hand[2] <= yard[2][yard[0][hand[1][0]][0]] else "walks")
+    return tuple(words)
+
+
+def one_beat(yard, standing, beat):
+    """What stands behind the beat, where standing stood before it."""
+    frames, _, _, _, _, strays = yard
+    counts, broken, _, lengths = standing
+    counts = [list(count) for count in counts]
+    lengths = list(lengths)
+    now = hands_in(yard, standing, beat)
 
     whole = {(at, thread) for at, frame in enumerate(frames) for thread in range(frame[1])}
     whole -= {torn[:2] for torn in broken}
@@ -85,6 +114,29 @@ def walked(yard, moments):
     for beat in range(1, moments + 1):
         told.append(one_beat(yard, told[-1], beat))
     return told
+
+
+def alike_key(yard, standing, moment):
+    """What must be the same at two moments for them to be alike."""
+    strays = tuple(spun - standing[0][frame][0] if spun > standing[0][frame][0] else None
+                   for frame, spun, _ in yard[5])
+    edges = tuple(edge - moment if edge is not None and edge >= moment else None
+                  for hand in yard[4] for edge in hand[2:])
+    return (core(standing), strays, edges)
+
+
+def plain_round(yard, most):
+    """(LEAD, ROUND, LENGTHS) by keeping every moment to the most one; None where none comes again by then."""
+    seen, told = {}, [start(yard)]
+    for moment in range(most + 1):
+        key = alike_key(yard, told[-1], moment)
+        if key in seen:
+            lead = seen[key]
+            lengths = tuple(now - then for now, then in zip(told[-1][3], told[lead][3]))
+            return (lead, moment - lead, lengths)
+        seen[key] = moment
+        told.append(one_beat(yard, told[-1], moment + 1))
+    return None
 
 
 def met(yard, standing, moment):
@@ -139,3 +191,41 @@ def shifted(standing, before, first, beats, times):
     broken = tuple((frame, thread, since + beats if since > first else since) for frame, thread, since in broken)
     lengths = tuple(length + (length - old) * times for length, old in zip(lengths, before[3]))
     return (frames, broken, hands, lengths)
+
+
+def to_meeting(yard, now, standing, before, beats):
+    """How many rounds like the one from before to standing meet nothing, None where they go on for ever."""
+    times = [(edge - now) // beats for hand in yard[4] for edge in hand[2:] if edge is not None and edge >= now]
+    for frame, spun, _ in yard[5]:
+        here, grown = standing[0][frame][0], standing[0][frame][0] - before[0][frame][0]
+        if spun > here and grown > 0:
+            times.append((spun - here - 1) // grown)
+    return min(times, default=None)
+
+
+def both_leapt(yard, other):
+    """(FIRST, LAST) of two yards, walked side by side; rounds are leapt over where both come again at once."""
+    pair = (yard, other)
+    now, stood, seen, unlike = 0, (start(yard), start(other)), {}, []
+    while True:
+        key = tuple(core(one) for one in stood)
+        if key in seen:
+            first, before = seen[key]
+            beats = now - first
+            times = [to_meeting(asked, now, one, old, beats) for asked, one, old in zip(pair, stood, before)]
+            times = min((some for some in times if some is not None), default=None)
+            some = [beat for beat in unlike if beat > first]
+            if times is None:
+                return (unlike[0] if unlike else None, None if some or not unlike else unlike[-1])
+            stood = tuple(shifted(one, old, first, beats * times, times) for one, old in zip(stood, before))
+            now += beats * times
+            unlike += [beat + beats * times for beat in some[-1:]]
+            seen = {}
+        seen[key] = (now, stood)
+        was = [met(asked, one, now) for asked, one in zip(pair, stood)]
+        if frame_words(yard, stood[0]) != frame_words(other, stood[1]):
+            unlike.append(now + 1)
+        now += 1
+        stood = tuple(one_beat(asked, one, now) for asked, one in zip(pair, stood))
+        if [met(asked, one, now) for asked, one in zip(pair, stood)] != was:
+            seen = {}

@@ -29,7 +29,10 @@ STATEMENTS = (ast.Global, ast.AsyncFunctionDef, ast.AsyncFor, ast.AsyncWith, ast
 # what the checker will need must not stand in these
 AFTER_YARDS = set("""runs stands beats events rounds spells waits counts beside keepers plain small calls
 doffings""".split())
-INTERFACE = {"yards": ("is_yard",), "stands": ("stands",), "errors": ("DoffError", "NoYard", "NoText")}
+INTERFACE = {"yards": ("is_yard",), "stands": ("stands",), "errors": ("DoffError", "NoYard", "NoText"),
+             "rounds": ("are_alike", "round_of"), "beside": ("beside", "without_stray", "gone_at"),
+             "keepers": ("Keeper",), "plain": ("plain_worst", "fewest_hands")}
+KEEPER = "__init__ run come go put_stray strike yard moment stands_now".split()
 
 
 def files():
@@ -103,7 +106,7 @@ class Language(unittest.TestCase):
             self.assertNotIn(name[:-3], self.imported(name[:-3], set()))
 
     def test_what_the_checker_needs_stands_apart(self):
-        for name in ("errors", "wholes", "yards", "refusals", "frames", "hands", "walker"):
+        for name in ("errors", "wholes", "yards", "refusals", "frames", "hands", "walker", "likeness", "plainness"):
             self.assertFalse(self.imported(name, set()) & AFTER_YARDS, name)
 
     def test_the_interface_is_defined_in_its_files(self):
@@ -112,6 +115,11 @@ class Language(unittest.TestCase):
             defined = [node.name for node in body if isinstance(node, (ast.FunctionDef, ast.ClassDef))]
             for one in told:
                 self.assertIn(one, defined)
+
+    def test_a_class_defines_its_own_methods(self):
+        keeper = [node for node in self.trees["keepers.py"].body if isinstance(node, ast.ClassDef)][0]
+        defined = [node.name for node in keeper.body if isinstance(node, ast.FunctionDef)]
+        self.assertLessEqual(set(KEEPER), set(defined))
 
     def test_statements_and_numbers(self):
         for place, _ in self.each(*STATEMENTS):
