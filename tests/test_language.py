@@ -26,12 +26,14 @@ BARRED_ATTRIBUTES = set("""items keys values pop update append clear extend inse
 encode decode hex fromhex format format_map mro register elements open input law""".split())
 STATEMENTS = (ast.Global, ast.AsyncFunctionDef, ast.AsyncFor, ast.AsyncWith, ast.Await, ast.Import, ast.AnnAssign,
               ast.Div)
-# what the checker will need must not stand in these
+# what the checker needs must not stand in these
 AFTER_YARDS = set("""runs stands beats events rounds spells waits counts beside keepers plain small calls
 doffings""".split())
 INTERFACE = {"yards": ("is_yard",), "stands": ("stands",), "errors": ("DoffError", "NoYard", "NoText"),
              "rounds": ("are_alike", "round_of"), "beside": ("beside", "without_stray", "gone_at"),
-             "keepers": ("Keeper",), "plain": ("plain_worst", "fewest_hands")}
+             "keepers": ("Keeper",), "plain": ("plain_worst", "fewest_hands"), "beats": ("frames_do", "hands_do"),
+             "small": ("is_small", "worst_story", "played"), "calls": ("least_hands", "with_hands"),
+             "checker": ("holds",)}
 KEEPER = "__init__ run come go put_stray strike yard moment stands_now".split()
 
 
@@ -106,7 +108,7 @@ class Language(unittest.TestCase):
             self.assertNotIn(name[:-3], self.imported(name[:-3], set()))
 
     def test_what_the_checker_needs_stands_apart(self):
-        for name in ("errors", "wholes", "yards", "refusals", "frames", "hands", "walker", "likeness", "plainness"):
+        for name in ("checker", "walker", "refusals", "errors"):
             self.assertFalse(self.imported(name, set()) & AFTER_YARDS, name)
 
     def test_the_interface_is_defined_in_its_files(self):
