@@ -67,7 +67,6 @@ def stretches_of(walker):
     start = walker.now
     steps = []
     while True:
-        walker.begin()
         steps.append((walker.now, [frame.does() for frame in walker.frames]))
         come_round = seeker.step(BIG)
         beats = walker.now - start

@@ -211,8 +211,6 @@ def walk_to(walker, moment):
 
 def frames_doing(walkers):
     """Tell what each frame does in the beat behind now, of walkers that have all of a yard between them."""
-    for walker in walkers:
-        walker.begin()
     words = {frame.number: frame.does() for walker in walkers for frame in walker.frames}
     return tuple(words[number] for number in range(len(words)))
 

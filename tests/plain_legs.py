@@ -1,31 +1,13 @@
 """LEGS found and followed by the words of point 20, on the tests' own walk."""
 
-from tests.plain_walk import alike_key, core, frame_words, least_times, met, one_beat, shifted, start
+from tests.plain_walk import alike_key, core, far_walk, frame_words, one_beat, shifted, start
 
 BIG = 10 ** 30
 
 
 def legs_to(yard, moment):
-    """LEGS to a moment: every moment is kept till one comes again, then as many rounds are leapt as can be."""
-    now, standing, seen, legs = 0, start(yard), {}, []
-    while now < moment:
-        was, key = met(yard, standing, now), core(standing)
-        if key in seen:
-            first, before = seen[key]
-            times = least_times(yard, now, standing, first, before, moment)
-            if times > 0:
-                legs.append((first, now - first, times))
-                standing = shifted(standing, before, first, (now - first) * times, times)
-                now += (now - first) * times
-            seen = {}
-            if now == moment:
-                break
-        seen[key] = (now, standing)
-        standing = one_beat(yard, standing, now + 1)
-        now += 1
-        if met(yard, standing, now) != was:
-            seen = {}
-    return tuple(legs)
+    """LEGS to a moment."""
+    return far_walk(yard, moment)[1]
 
 
 def whole(thing, low):

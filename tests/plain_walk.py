@@ -153,16 +153,25 @@ def core(standing):
 
 
 def leapt(yard, moment):
-    """What stands at a far moment: every moment of a stretch is kept till one is met again, then rounds are leapt."""
-    now, standing, seen = 0, start(yard), {}
+    """What stands at a far moment."""
+    return far_walk(yard, moment)[0]
+
+
+def far_walk(yard, moment):
+    """What stands at a far moment, and the legs (FROM, ROUND, TIMES) by which rounds were leapt over.
+
+    Every moment of a stretch is kept till one is met again, then as many rounds are leapt as can be.
+    """
+    now, standing, seen, legs = 0, start(yard), {}, []
     while now < moment:
         was = met(yard, standing, now)
         key = core(standing)
         if key in seen:
             first, before = seen[key]
-            times = least_times(yard, now, standing, first, before, moment)
-            standing = shifted(standing, before, first, (now - first) * times, times)
-            now += (now - first) * times
+            beats, times = now - first, least_times(yard, now, standing, first, before, moment)
+            standing = shifted(standing, before, first, beats * times, times)
+            now += beats * times
+            legs += [(first, beats, times)] if times > 0 else []
             seen = {}
             if now == moment:
                 break
@@ -171,7 +180,7 @@ def leapt(yard, moment):
         now += 1
         if met(yard, standing, now) != was:
             seen = {}
-    return standing
+    return standing, tuple(legs)
 
 
 def least_times(yard, now, standing, first, before, moment):

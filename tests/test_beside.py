@@ -85,6 +85,16 @@ class Worked(unittest.TestCase):
         self.assertEqual(beside(last, asked), both_leapt(asked, last))
         self.assertGreater(beside(last, asked)[0], BIG)
 
+    def test_unlike_by_rounds_and_alike_for_ever_behind_them(self):
+        frame = (0, 1, 0, 4, 0, ((4, 0),))
+        alone = made([frame])
+        asked = made([frame], [ALWAYS], pieces=(2, 1))
+        # it spins in four of six beats; gone as the thread breaks, the hand leaves it broken as it is in the other yard
+        for times in (1, 2, 3, 10, 10 ** 20):
+            self.both_ways(gone_at(asked, 0, 6 * times + 4), alone, (7, 6 * times + 4))
+            self.both_ways(gone_at(asked, 0, 6 * times + 5), alone, (7, 6 * times + 4))
+            self.both_ways(gone_at(asked, 0, 6 * times + 6), alone, (7, 6 * times + 10))
+
     def test_yards_with_another_number_of_frames(self):
         frame = (0, 1, 0, 4, 0, ())
         for one in range(1, 5):

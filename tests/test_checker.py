@@ -134,14 +134,15 @@ class Fewest(Taken):
     def test_rows_by_which_none_waits_longer(self):
         frames = [(0, 3, 2, 9, 0, ())]
         asked = plain_yard(frames, 1, (2, 2))
-        self.assertEqual(fewest_hands(asked, 5), 2)
         both = [0, 0]
-        for many in range(4):
-            for rows in itertools.combinations([(at, thread) for at in (1, 2) for thread in range(3)], many):
-                waits = waits_in(with_parts(asked, (rows,)), 12)
-                good = any(wait > 5 for key, wait in waits.items() if key[0] == 1)
-                both[good] += 1
-                self.agrees(("fewest", asked, 5, 2), (rows,), good)
+        for wait in (4, 5):
+            self.assertEqual(fewest_hands(asked, wait), 2)
+            for many in range(4):
+                for rows in itertools.combinations([(at, thread) for at in (1, 2) for thread in range(3)], many):
+                    waits = waits_in(with_parts(asked, (rows,)), 12)
+                    good = any(beats > wait for key, beats in waits.items() if key[0] == 1)
+                    both[good] += 1
+                    self.agrees(("fewest", asked, wait, 2), (rows,), good)
         self.assertGreater(min(both), 0)
 
     def test_hands_as_told_and_not_those_of_the_yard(self):

@@ -104,6 +104,7 @@ class Stands(Taken):
     def test_a_leg_from_nought(self):
         asked = made([(0, 2, 1, 4, 0, ())])
         self.stands(asked, BIG, ((0, 4, BIG // 4 - 1),))
+        self.stands(asked, BIG, ((-1, 4, BIG // 4 - 1),), False)
 
     def test_since_moves_with_the_rounds_above_from(self):
         asked = made([(0, 2, 1, 4, 0, ((2, 0),)), (0, 2, 1, 3, 0, ((2, 1),))], [ALWAYS], pieces=(2, 1))
@@ -200,6 +201,7 @@ class Rounds(Taken):
             self.yes(("round", asked, 0, beats), ())
             self.yes(("round", asked, 10000, beats), ())
             self.no(("round", asked, 0, beats + 400), ())
+        self.no(("round", made([(0, 1, 0, 1, 0, ())]), 0, 10001), ())
 
     def test_the_round_itself_is_walked_besides(self):
         asked = made([(0, 1, 0, 1, 0, ())])
@@ -290,6 +292,8 @@ class Unlike(Taken):
     def test_ten_thousand_beats_for_each(self):
         low = made([(0, 1, 0, 1, 0, ())]), made([(0, 1, 0, 1, 1, ())])
         self.yes(("unlike",) + low + (0, 10000), ((), ()))
+        doffed = made([(0, 1, 0, 1, 2, ())])
+        self.yes(("unlike", low[0], doffed, 0, 10001), ((), ()))
         self.no(("unlike",) + low + (0, 10002), ((), ()))
         self.no(("unlike",) + low + (0, 10002), (((0, 2, 9),), ()))
         self.yes(("unlike",) + low + (0, 10002), (((0, 2, 9),), ((0, 2, 9),)))

@@ -91,6 +91,14 @@ class Small(unittest.TestCase):
             thing = (tuple((0, threads, 0) for threads in shape), ((0,) * many,) * many, (1, 1), "old", 0)
             (self.yes if good else self.no)(thing)
 
+    def test_tuples_too_long_and_too_short(self):
+        for path in paths(SMALL):
+            old = part(SMALL, path)
+            if isinstance(old, tuple):
+                with self.subTest(path=path):
+                    self.no(put(SMALL, path, old[:-1]))
+                    self.no(put(SMALL, path, old + old[-1:]))
+
     def test_as_many_walks_as_frames(self):
         self.no(put(SMALL, (1,), ((0,),)))
         self.no(put(SMALL, (1,), ((0, 1, 1), (1, 0, 1), (1, 1, 0))))
@@ -157,17 +165,27 @@ class Played(unittest.TestCase):
             self.assertEqual(played(small, wanted)[0], (2, 0, 0, 5))
         with self.assertRaises(NoStory):
             played(small, ((), ((0, 0),), (), (), (), ((0, 0),)))
-        # two beats of spinning, three of standing: one spun since it became whole counts on behind them
+        # thread 0 is whole behind beat 6, but its frame stands for thread 1 till behind beat 9
         small = (((0, 2, 0),), ((0,),), (3, 1), "old", 2)
         start = ((), (), ((0, 0), (0, 1))) + ((),) * 6
         self.assertEqual([row[3] for row in played(small, start)], [6, 9])
         for calm in range(4):
-            story = start + ((),) * calm + (((0, 0), (0, 1)),)
-            if calm >= 2:
-                played(small, story)
-            else:
-                with self.assertRaises(NoStory):
+            for torn in (((0, 0), (0, 1)), ((0, 0),), ((0, 1),)):
+                story = start + ((),) * calm + (torn,)
+                if calm >= 2:
                     played(small, story)
+                else:
+                    with self.assertRaises(NoStory):
+                        played(small, story)
+
+    def test_spinning_counts_on_behind_standing(self):
+        # thread 1 has spun for one beat when its frame comes to stand, and spins the second one behind that
+        small = (((0, 2, 0),), ((0,),), (2, 1), "old", 1)
+        story = ((), ((0, 1),), (), (), ((0, 0),), (), ())
+        self.assertEqual([row[3] for row in played(small, story)], [4, 7])
+        played(small, story + (((0, 1),),))
+        with self.assertRaises(NoStory):
+            played(small, story + (((0, 0),),))
 
     def test_things_of_any_kind(self):
         for odd in (None, True, 0, 5, "", "ab", b"", [], {}, set(), Odd(), len, [()], ([],), (None,), (0,), ("",), ({},),
