@@ -1,8 +1,8 @@
 """The fewest hands that answer calls (point 18)."""
 
 from doffyard.callings import are_calls, count_within, is_crowded
-from doffyard.errors import NoCalls, NoMany
-from doffyard.wholes import is_count
+from doffyard.errors import NoCalls
+from doffyard.refusals import need_many
 
 
 def least_hands(calls):
@@ -18,8 +18,7 @@ def least_hands(calls):
 def with_hands(calls, many):
     """Tell ("plan", PLAN) for so many hands, or ("short", A, B): a stretch with more calls than they can answer."""
     need_calls(calls)
-    if not is_count(many):
-        raise NoMany("a count of hands is a whole number from 0 on")
+    need_many(many)
     if not calls:
         return ("plan", ())
     stretch = tightest(calls)

@@ -4,7 +4,7 @@ from doffyard.callings import are_calls, is_crowded, is_plan, is_stretch
 from doffyard.doffs import are_doffs, go_on_at_once, is_doffers_plan
 from doffyard.legs import walked_by
 from doffyard.likeness import stand_alike
-from doffyard.plainness import fewest_for, has_pieces_alike, is_plain, most_wait, with_hands_from_first, with_rows
+from doffyard.plainness import fewest_for, has_pieces_alike, is_plain, most_wait, with_hands_from, with_rows
 from doffyard.stories import breaks_by, is_small_yard, standings_of
 from doffyard.walker import Walker, frames_doing, walk_to, what_stands
 from doffyard.wholes import is_beat, is_count, is_moment, is_tuple_of, is_whole, is_within
@@ -67,7 +67,7 @@ def takes_fewest(parts, paper):
         return False
     if how == 1:
         return paper is None
-    torn = with_rows(with_hands_from_first(yard, how - 1), paper)
+    torn = with_rows(with_hands_from(yard, 0, how - 1), paper)
     return is_yard(torn) and first_torn(torn, wait + 1) > 0
 
 

@@ -1,9 +1,8 @@
 """The worst that can come in plain yards, and the fewest hands for them (points 15 and 16)."""
 
-from doffyard.errors import NoPlain, NoWait
+from doffyard.errors import NoPlain
 from doffyard.plainness import fewest_for, has_pieces_alike, is_plain, most_wait
-from doffyard.refusals import need_yard
-from doffyard.wholes import is_count
+from doffyard.refusals import need_wait, need_yard
 
 
 def plain_worst(yard):
@@ -25,8 +24,7 @@ def fewest_hands(yard, wait):
     need_plain(yard)
     if not has_pieces_alike(yard):
         raise NoPlain("the sorts aren't pieced in as many beats")
-    if not is_count(wait):
-        raise NoWait("a wait is a whole number from 0 on")
+    need_wait(wait)
     return fewest_for(yard, wait)
 
 

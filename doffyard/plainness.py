@@ -51,9 +51,9 @@ def divided_up(some, other):
     return (some + other - 1) // other
 
 
-def with_hands_from_first(yard, many):
-    """Tell the yard with, in the place of its hands, so many from frame 0, from 0 on and on and minding all."""
-    hand = (0, tuple(range(len(yard[0]))), 0, None)
+def with_hands_from(yard, frame, many):
+    """Tell the yard with, in the place of its hands, so many from the frame, from 0 on and on and minding all."""
+    hand = (frame, tuple(range(len(yard[0]))), 0, None)
     return yard[:4] + ((hand,) * many, yard[5])
 
 

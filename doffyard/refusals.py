@@ -1,8 +1,11 @@
 """Refuses what is not of the kind that a question asks for."""
 
-from doffyard.errors import NoFrame, NoHand, NoMoment, NoStray, NoYard
-from doffyard.wholes import is_beat, is_moment, is_within
+from doffyard.errors import NoFrame, NoHand, NoMany, NoMoment, NoStray, NoWait, NoYard
+from doffyard.wholes import is_beat, is_count, is_moment, is_within
 from doffyard.yards import is_yard
+
+# how much more than its first beat the last one of a stretch may be
+MOST_AHEAD = 400
 
 
 def need_yard(thing):
@@ -21,6 +24,26 @@ def need_beat(thing):
     """Refuse what is no beat."""
     if not is_beat(thing):
         raise NoMoment("a beat is a whole number from 1 to 10 ** 30")
+
+
+def need_stretch(first, last):
+    """Refuse what are no beats, and those that aren't the first and the last one of a stretch that can be asked for."""
+    need_beat(first)
+    need_beat(last)
+    if not first <= last <= first + MOST_AHEAD:
+        raise NoMoment("the last beat is from the first one to 400 beats behind it")
+
+
+def need_wait(thing):
+    """Refuse what is no number of beats to wait."""
+    if not is_count(thing):
+        raise NoWait("a wait is a whole number from 0 on")
+
+
+def need_many(thing):
+    """Refuse what is no count of hands or doffers."""
+    if not is_count(thing):
+        raise NoMany("a count is a whole number from 0 on")
 
 
 def need_frame(yard, thing):

@@ -11,6 +11,14 @@ def run_yard(yard, moment):
     return walkers
 
 
+def run_part(yard, frame, moment):
+    """Tell a walker that has the part of the yard to which the frame belongs, brought to the moment."""
+    frames, hands = [part for part in parts_of(yard) if frame in part[0]][0]
+    walker = Walker(yard, frames, hands)
+    run_to(walker, moment)
+    return walker
+
+
 def run_to(walker, moment):
     """Bring a walker to a moment that isn't before its own."""
     seeker = Seeker(walker)

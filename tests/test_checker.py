@@ -501,7 +501,7 @@ class Imports(unittest.TestCase):
                              capture_output=True, text=True, check=True)
         names = run.stdout.split()
         self.assertIn("doffyard.checker", names)
-        for name in HOUSE:
+        for name in HOUSE + ["papers", "shortcuts", "trails", "desk"]:
             self.assertNotIn("doffyard." + name, names)
 
 

@@ -33,7 +33,10 @@ INTERFACE = {"yards": ("is_yard",), "stands": ("stands",), "errors": ("DoffError
              "rounds": ("are_alike", "round_of"), "beside": ("beside", "without_stray", "gone_at"),
              "keepers": ("Keeper",), "plain": ("plain_worst", "fewest_hands"), "beats": ("frames_do", "hands_do"),
              "small": ("is_small", "worst_story", "played"), "calls": ("least_hands", "with_hands"),
-             "checker": ("holds",)}
+             "checker": ("holds",), "yardtexts": ("show_yard", "read_yard"), "events": ("next_event",),
+             "doffings": ("doffings", "least_doffers", "with_doffers"),
+             "papers": ("paper_stands", "paper_round", "paper_unlike", "paper_plain", "paper_fewest", "paper_small",
+                        "paper_calls", "paper_short", "paper_doffers")}
 KEEPER = "__init__ run come go put_stray strike yard moment stands_now".split()
 
 
