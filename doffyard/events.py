@@ -16,16 +16,14 @@ def next_event(yard, moment):
 
 def event_in_part(walker, moment):
     """Tell the first eventful beat behind the moment of the part of a yard that a walker has, or None."""
-    doing = None
-    if moment > 0:
-        run_to(walker, moment - 1)
-        doing = words_of(walker)
-        walk_to(walker, moment)
+    run_to(walker, max(0, moment - 1))
+    # at moment 0 this is what they do in beat 1 itself, and so that is nothing new
+    doing = words_of(walker)
+    walk_to(walker, moment)
     seeker = Seeker(walker)
     while walker.now < BIG:
         if begins_eventful(walker, doing):
             return walker.now + 1
-        doing = words_of(walker)
         broken = list(walker.broken)
         come_round = seeker.step(BIG - walker.now)
         if walker.broken != broken:
@@ -41,12 +39,9 @@ def words_of(walker):
 
 
 def begins_eventful(walker, doing):
-    """Begin the beat behind now; tell whether a hand comes, goes or takes, or a frame does another thing than before.
-
-    doing is what the frames did in the beat before, None where there was none.
-    """
+    """Begin the beat behind now; tell whether a hand comes, goes or takes in it, or a frame does another thing."""
     turned = walker.turned
     idle = [hand.job is None for hand in walker.hands]
     walker.begin()
     taken = [hand for hand, was_idle in zip(walker.hands, idle) if was_idle and hand.job is not None]
-    return walker.turned > turned or len(taken) > 0 or (doing is not None and words_of(walker) != doing)
+    return walker.turned > turned or len(taken) > 0 or words_of(walker) != doing

@@ -41,6 +41,7 @@ def has_walks(parts):
     return len(parts["frame"]) > 0 and len(parts["frame"]) == len(parts["walks"])
 
 
+# what the readers tell may be None, or have it in a word's place: whether it is a part of a yard is asked behind that
 def read_rule(words):
     """Tell the rule that is the one word."""
     return words[0] if len(words) == 1 else None
@@ -54,23 +55,20 @@ def read_numbers(words):
 def read_frame(words):
     """Tell what should be a frame by its words."""
     numbers = numbers_of(words[:5])
-    rows = [numbers_of(word.split(":")) for word in words[5:]]
-    if numbers is None or None in rows:
+    if numbers is None:
         return None
-    return numbers + (tuple(rows),)
+    return numbers + (tuple(numbers_of(word.split(":")) for word in words[5:]),)
 
 
 def read_hand(words):
     """Tell what should be a hand by its words."""
     if len(words) != 4:
         return None
-    frame = number_of(words[0])
-    minds = minds_of(words[1])
-    start = number_of(words[2])
-    end = None if words[3] == NEVER else number_of(words[3])
-    if frame is None or minds is None or start is None or (end is None and words[3] != NEVER):
+    end = number_of(words[3])
+    # None alone wouldn't tell a hand that never goes from a word that is no number
+    if end is None and words[3] != NEVER:
         return None
-    return (frame, minds, start, end)
+    return (number_of(words[0]), minds_of(words[1]), number_of(words[2]), end)
 
 
 def rule_fits(parts, part):
@@ -136,9 +134,9 @@ def take_row(parts, row):
     if word not in READERS:
         return False
     reader = READERS[word]
-    part = reader(words)
     fits = FITS[word]
-    if part is None or not fits(parts, part):
+    part = reader(words)
+    if not fits(parts, part):
         return False
     parts[word].append(part)
     return True

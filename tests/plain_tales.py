@@ -75,13 +75,17 @@ def plain_breaks(yard, first, last, beats):
     return sorted(told, key=lambda torn: torn[:3])
 
 
-def plain_longest(yard, most):
-    """Of a yard for ever, by all breaks of its lead and its round; None where no round comes again by most beats."""
+def all_breaks(yard, most):
+    """All breaks of a yard's lead and its round; None where no round comes again by most beats."""
     found = plain_round(yard, most)
     if found is None:
         return None
     lead, beats, _ = found
-    torn = plain_breaks(yard, 1, lead + beats, 2 * beats)
+    return plain_breaks(yard, 1, lead + beats, 2 * beats)
+
+
+def longest_of(torn):
+    """What is told of a yard, for ever, whose breaks are these."""
     lasting = [row for row in torn if row[3] is None]
     if lasting:
         return ("endless", lasting[0])
@@ -89,3 +93,9 @@ def plain_longest(yard, most):
         return ("none",)
     waits = max(whole - broke for broke, _, _, whole in torn)
     return ("waits", waits, [row for row in torn if row[3] - row[0] == waits][0])
+
+
+def plain_longest(yard, most):
+    """Of a yard, for ever; None where no round comes again by most beats."""
+    torn = all_breaks(yard, most)
+    return None if torn is None else longest_of(torn)

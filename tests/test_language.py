@@ -36,8 +36,10 @@ INTERFACE = {"yards": ("is_yard",), "stands": ("stands",), "errors": ("DoffError
              "checker": ("holds",), "yardtexts": ("show_yard", "read_yard"), "events": ("next_event",),
              "doffings": ("doffings", "least_doffers", "with_doffers"),
              "papers": ("paper_stands", "paper_round", "paper_unlike", "paper_plain", "paper_fewest", "paper_small",
-                        "paper_calls", "paper_short", "paper_doffers")}
-KEEPER = "__init__ run come go put_stray strike yard moment stands_now".split()
+                        "paper_calls", "paper_short", "paper_doffers"),
+             "spells": ("spells",), "waits": ("breaks", "longest"), "counts": ("counts",), "desk": ("Desk",)}
+METHODS_OF = {"keepers": "__init__ run come go put_stray strike yard moment stands_now".split(),
+              "desk": ["__init__", "say"]}
 
 
 def files():
@@ -122,9 +124,11 @@ class Language(unittest.TestCase):
                 self.assertIn(one, defined)
 
     def test_a_class_defines_its_own_methods(self):
-        keeper = [node for node in self.trees["keepers.py"].body if isinstance(node, ast.ClassDef)][0]
-        defined = [node.name for node in keeper.body if isinstance(node, ast.FunctionDef)]
-        self.assertLessEqual(set(KEEPER), set(defined))
+        for name, methods in METHODS_OF.items():
+            told = [node for node in self.trees[name + ".py"].body if isinstance(node, ast.ClassDef)]
+            self.assertEqual(len(told), 1)
+            defined = [node.name for node in told[0].body if isinstance(node, ast.FunctionDef)]
+            self.assertLessEqual(set(methods), set(defined))
 
     def test_statements_and_numbers(self):
         for place, _ in self.each(*STATEMENTS):

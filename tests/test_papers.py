@@ -95,9 +95,11 @@ class Stands(Papers):
                 self.assertTrue(self.stands(asked, moment))
 
     def test_no_legs_that_are_short_enough(self):
-        self.assertTrue(self.stands(WIDE, 2000))
         self.assertEqual(round_of(WIDE)[1], 548100)
-        for moment in (10 ** 6 * 2, BIG):
+        for moment in (2000, 9999, 10000):
+            self.assertEqual(paper_stands(WIDE, moment)[1], ())
+            self.yes(*paper_stands(WIDE, moment))
+        for moment in (10001, 10 ** 6 * 2, BIG):
             with self.assertRaises(NoMoment):
                 paper_stands(WIDE, moment)
 
@@ -154,6 +156,13 @@ class Rounds(Papers):
             asked = made([(0, 1, 0, full, 0, ()) for full in fulls])
             self.assertEqual(round_of(asked)[1], beats)
             self.assertEqual(self.round(asked), beats <= 10000)
+
+    def test_a_round_of_just_so_many_beats(self):
+        # two frames that share a hand have a round of 625 beats, and one by itself of 16
+        frames = [(0, 1, 0, 25, 6, ((8, 0),)), (0, 1, 0, 30, 7, ((18, 0),)), (0, 1, 0, 16, 0, ())]
+        asked = made(frames, [(0, (0, 1), 0, None)], walks=((0, 1, 0), (5, 0, 0), (0, 0, 0)))
+        self.assertEqual(round_of(asked)[1], 10000)
+        self.assertTrue(self.round(asked))
 
     def test_refused(self):
         for odd in NO_YARDS:
